@@ -1,0 +1,1 @@
+"""Deedseen: what a deed would do, told from what was merely watched."""

@@ -1,0 +1,58 @@
+"""The interface: names, the parameters' names, and the file in which each is defined."""
+
+import ast
+import importlib
+import inspect
+import unittest
+from pathlib import Path
+
+import deedseen
+
+FOLDER = Path(deedseen.__file__).parent
+
+# What has landed, file by file, as DOC.md lists it.
+FUNCTIONS = {
+    "drawings": ["need_drawing(drawing)", "need_lot(drawing, value)", "parents_of(drawing, lot, thing)",
+                 "children_of(drawing, lot, thing)", "causes_of(drawing, thing)", "linked(drawing, one, other)",
+                 "leading(drawing, lot, goal)", "rooms(drawing, lot)", "closed_up(drawing, lot, some)",
+                 "goal_of(drawing, shut, ends)"],
+    "chances": ["reduced(above, below)", "plus(one, other)", "times(one, other)", "over(one, other)"],
+}
+CLASSES = ["BadDrawing(place)", "BadLot(value)", "BadWorld(place)", "BadTable(place)", "BadQuestion(place)",
+           "BadSteps(place)", "BadHedge(value)", "BadRoad(value)", "BadText(line, word)", "BadDeed(place)",
+           "BadParameter(value)", "Nought(row)", "NoRow()", "TooGreat(most)"]
+
+
+def defined(file):
+    """The functions and classes that a file itself defines."""
+    tree = ast.parse((FOLDER / f"{file}.py").read_text(encoding="utf-8"))
+    return {node.name for node in tree.body if isinstance(node, (ast.FunctionDef, ast.ClassDef))}
+
+
+class InterfaceTest(unittest.TestCase):
+
+    def test_functions(self):
+        for file, told in FUNCTIONS.items():
+            module = importlib.import_module(f"deedseen.{file}")
+            names = defined(file)
+            for function in told:
+                name = function.partition("(")[0]
+                self.assertIn(name, names)
+                found = inspect.signature(getattr(module, name))
+                self.assertEqual(name + str(found), function)
+
+    def test_classes(self):
+        module = importlib.import_module("deedseen.errors")
+        names = defined("errors")
+        self.assertIn("DeedError", names)
+        for told in CLASSES:
+            name = told.partition("(")[0]
+            self.assertIn(name, names)
+            self.assertEqual(name + str(inspect.signature(getattr(module, name))), told)
+
+    def test_wording_is_there(self):
+        self.assertTrue((FOLDER / "wording.py").is_file())
+
+
+if __name__ == "__main__":
+    unittest.main()
