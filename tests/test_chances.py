@@ -7,7 +7,8 @@ from math import gcd
 
 from deedseen import chances
 from deedseen.errors import BadParameter
-from tests.helping import HOSTILE, NO_INTEGERS, NO_TUPLES, assert_first_told, assert_plain, assert_refused, bad_parameter
+from tests.helping import (HOSTILE, NO_INTEGERS, NO_TUPLES, assert_first_told, assert_plain, assert_refused,
+                           bad_parameter)
 
 NO_FRACTIONS = NO_TUPLES + [(), (1,), (1, 2, 3), (-1, 2), (1, 0), (0, 0), (1, -2), (2, 4), (0, 2), (6, 3), (True, 1),
                             (1, True), (False, 1), (0, True), (1.0, 2), (1, 2.0), ("1", 2), (None, 1), (HOSTILE, 1),

@@ -1,0 +1,50 @@
+"""Questions: what is asked, of which things."""
+
+from deedseen.drawings import need_drawing
+from deedseen.errors import BadParameter, BadQuestion
+from deedseen.lots import goal_in, is_lot, is_row_of, is_tuple_of, lies_in, lot_without, meets, together
+
+
+def need_question(question):
+    """Return a question, refuse what is none."""
+    if not is_tuple_of(question, 5):
+        raise BadQuestion(())
+    drawing, tried, by_hand, seen, asked = question
+    need_drawing(drawing)
+    for place in (1, 2, 3, 4):
+        if not is_lot(drawing[0], question[place]):
+            raise BadQuestion((place,))
+    if not asked:
+        raise BadQuestion((4,))
+    if not lies_in(tried, by_hand):
+        raise BadQuestion((1,))
+    if meets(seen, by_hand):
+        raise BadQuestion((3,))
+    if meets(asked, by_hand) or meets(asked, seen):
+        raise BadQuestion((4,))
+    return question
+
+
+def things_of(question):
+    """The SET of a question's things: what is set, seen or asked."""
+    need_question(question)
+    return things_in(question)
+
+
+def things_in(question):
+    """The same as things_of, of what is known to be a question."""
+    return together(together(question[2], question[3]), question[4])
+
+
+def goal(question, moved):
+    """The lot of what leads, outside of all that is set, to what is seen or asked."""
+    need_question(question)
+    if not is_row_of(question[3], moved):
+        raise BadParameter(moved)
+    return goal_behind(question, moved)
+
+
+def goal_behind(question, moved):
+    """The same as goal, of a question and things of SEEN that are known to be right."""
+    drawing, _, by_hand, seen, asked = question
+    return goal_in(drawing, together(by_hand, moved), together(lot_without(seen, moved), asked))
