@@ -24,7 +24,7 @@ def _cut_causes(drawing, over):
     return tuple(sorted({cause for cause in left if len(cause) > 1}))
 
 
-def _need_ends(drawing, over, under, one, others, seen):
+def need_ends(drawing, over, under, one, others, seen):
     """Refuse what is wrong of the parameters that all functions of roads have."""
     need_lot(drawing, over)
     need_lot(drawing, under)
@@ -39,7 +39,7 @@ def _need_ends(drawing, over, under, one, others, seen):
 
 def open_road(drawing, over, under, one, others, seen):
     """The least open road from a thing to others."""
-    _need_ends(drawing, over, under, one, others, seen)
+    need_ends(drawing, over, under, one, others, seen)
     road = least_road(drawing, over, under, one, others, seen)
     if road is None:
         raise NoRow()
@@ -48,7 +48,7 @@ def open_road(drawing, over, under, one, others, seen):
 
 def shut(drawing, over, under, one, others, seen):
     """Whether there is no open road from a thing to others."""
-    _need_ends(drawing, over, under, one, others, seen)
+    need_ends(drawing, over, under, one, others, seen)
     return least_road(drawing, over, under, one, others, seen) is None
 
 
@@ -147,7 +147,7 @@ def _kind_told(thing, other, kind):
 
 def is_open_road(drawing, over, under, one, others, seen, value):
     """Whether a value is an open road from a thing to others."""
-    _need_ends(drawing, over, under, one, others, seen)
+    need_ends(drawing, over, under, one, others, seen)
     if not _has_road_form(drawing[0], value):
         return False
     things, kinds = value

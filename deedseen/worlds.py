@@ -2,7 +2,7 @@
 
 from deedseen.chances import reduced, sum_of
 from deedseen.drawings import need_drawing, need_lot
-from deedseen.errors import BadParameter, BadWorld, TooGreat
+from deedseen.errors import BadParameter, BadWorld, DeedError, TooGreat
 from deedseen.lots import all_things, all_without, causes_with, is_integer, is_tuple_of, parents_in
 
 MOST_ROWS = 2 ** 14
@@ -26,6 +26,15 @@ def need_world(drawing, world):
     for thing in range(drawing[0]):
         _need_table_of(drawing, world, thing)
     return world
+
+
+def is_world(drawing, value):
+    """Whether a value is a world of what is known to be a drawing."""
+    try:
+        need_world(drawing, value)
+    except DeedError:
+        return False
+    return True
 
 
 def are_sizes(count, value):

@@ -3,43 +3,12 @@
 import random
 import unittest
 from fractions import Fraction
-from itertools import product
 from math import gcd
 
 from deedseen.drawings import parents_of, rooms
 from deedseen.worlds import factor, is_open, set_chances
 from tests.helping import all_drawings, assert_plain, lots, some_drawing, some_of, some_world, subsets
-
-
-def ranges(sizes):
-    return product(*[range(size) for size in sizes])
-
-
-def table_row(drawing, world, thing, row, hidden_row):
-    """The weights of a thing in a row: look up where this row of parents and causes stands among all."""
-    _, arrows, causes = drawing
-    parents = [start for start, end in arrows if end == thing]
-    numbers = [at for at, cause in enumerate(causes) if thing in cause]
-    sizes = [world[0][parent] for parent in parents] + [len(world[1][number]) for number in numbers]
-    values = [row[parent] for parent in parents] + [hidden_row[number] for number in numbers]
-    return world[2][thing][list(ranges(sizes)).index(tuple(values))]
-
-
-def plain_factor(drawing, world, lot):
-    """All rows of the causes' values, one by one."""
-    told = []
-    for row in ranges(world[0]):
-        chance = Fraction(0)
-        for hidden_row in ranges([len(weights) for weights in world[1]]):
-            part = Fraction(1)
-            for weights, value in zip(world[1], hidden_row):
-                part *= Fraction(weights[value], sum(weights))
-            for thing in lot:
-                weights = table_row(drawing, world, thing, row, hidden_row)
-                part *= Fraction(weights[row[thing]], sum(weights))
-            chance += part
-        told.append(chance)
-    return told
+from tests.plain import plain_factor, ranges
 
 
 def as_fractions(case, chances):

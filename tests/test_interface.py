@@ -24,6 +24,11 @@ FUNCTIONS = {
     "roads": ["cut_drawing(drawing, over, under)", "open_road(drawing, over, under, one, others, seen)",
               "is_open_road(drawing, over, under, one, others, seen, value)",
               "shut(drawing, over, under, one, others, seen)"],
+    "hanging": ["hanging(drawing, over, under, one, others, seen)",
+                "is_hanging(drawing, over, under, one, others, seen, value)"],
+    "answers": ["answer(question, world)", "watched(question, world)"],
+    "steps": ["lots_of(question, steps)", "is_steps(question, value)"],
+    "checking": ["may_move(question, moved, thing)", "is_paper(question, value)", "is_hedge(question, value)"],
     "questions": ["need_question(question)", "things_of(question)", "goal(question, moved)"],
     "chances": ["reduced(above, below)", "plus(one, other)", "times(one, other)", "over(one, other)"],
 }

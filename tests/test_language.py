@@ -20,7 +20,7 @@ LET_METHODS = {
     "isdigit", "isascii", "items", "join", "keys", "pop", "remove", "replace", "reverse", "setdefault", "split",
     "startswith", "strip", "update", "values", "add", "discard", "sort", "bit_length", "__init__",
 }
-NOT_LET = (ast.Import, ast.Global, ast.AsyncFunctionDef, ast.AsyncFor, ast.AsyncWith, ast.Await, ast.Div, ast.Try,
+NOT_LET = (ast.Import, ast.Global, ast.AsyncFunctionDef, ast.AsyncFor, ast.AsyncWith, ast.Await, ast.Div, ast.TryStar,
            ast.AnnAssign, ast.With)
 
 
@@ -95,6 +95,16 @@ class LanguageTest(unittest.TestCase):
                 self.assertNotIsInstance(node, NOT_LET, file)
                 if isinstance(node, ast.Constant):
                     self.assertNotIsInstance(node.value, (float, complex), file)
+
+    def test_own_errors_alone_are_caught(self):
+        found = trees()
+        own = {node.name for node in found["errors"].body if isinstance(node, ast.ClassDef)}
+        for file, tree in found.items():
+            for node in ast.walk(tree):
+                if isinstance(node, ast.Try):
+                    self.assertEqual(node.finalbody, [], file)
+                    for handler in node.handlers:
+                        self.assertIn(handler.type.id, own, file)
 
     def test_names(self):
         for file, tree in trees().items():

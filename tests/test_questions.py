@@ -8,35 +8,9 @@ from deedseen import questions
 from deedseen.errors import BadDrawing, BadParameter, BadQuestion
 from tests.helping import (EXAMPLE, HOSTILE, NO_TUPLES, all_drawings, assert_first_told, assert_plain, assert_refused,
                            bad_parameter, lots, some_drawing, some_of, subsets)
+from tests.plain import all_questions, plain_goal, some_question
 
 NO_LOTS = NO_TUPLES + [(1, 0), (0, 0), (3,), (-1,), (True,), (0, True), (0.0,), ("0",), (HOSTILE,), [0], ((0,),)]
-
-
-def all_questions(drawing):
-    """Each thing is of SET, of SEEN, of ASKED or of none, and some of SET are TRIED."""
-    for places in product(range(4), repeat=drawing[0]):
-        by_hand, seen, asked = (tuple(at for at, place in enumerate(places) if place == told) for told in (1, 2, 3))
-        if asked:
-            for tried in subsets(by_hand):
-                yield drawing, tried, by_hand, seen, asked
-
-
-def some_question(chooser, count):
-    places = [chooser.randrange(4) for _ in range(count)]
-    places[chooser.randrange(count)] = 3
-    by_hand, seen, asked = (tuple(at for at, place in enumerate(places) if place == told) for told in (1, 2, 3))
-    return some_drawing(chooser, count), some_of(chooser, by_hand), by_hand, seen, asked
-
-
-def plain_goal(question, moved):
-    (count, arrows, _), _, by_hand, seen, asked = question
-    shut = set(by_hand) | set(moved)
-    found = set(asked) | (set(seen) - set(moved))
-    while True:
-        more = {start for start, end in arrows if end in found and start not in shut}
-        if more <= found:
-            return tuple(sorted(found))
-        found |= more
 
 
 class NeedQuestionTest(unittest.TestCase):
