@@ -16,6 +16,11 @@ def is_fraction(value):
     return above >= 0 and below >= 1 and gcd(above, below) == 1
 
 
+def is_chance(value):
+    """Whether a value is a chance: a fraction of 1 at most."""
+    return is_fraction(value) and value[0] <= value[1]
+
+
 def reduced(above, below):
     """The fraction of two integers."""
     if type(above) is not int or above < 0:

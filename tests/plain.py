@@ -294,9 +294,123 @@ def some_hedged(chooser, count, seen=None):
     """A drawn question that has a hedge, and its hedges; with something seen, nothing, or either."""
     while True:
         arrows = tuple(arrow for arrow in all_arrows(count) if chooser.random() < 0.6)
-        causes = tuple(sorted({some_of(chooser, range(count), chooser.choice([2, 2, 3])) for _ in range(count - 1)}))
+        sizes = [min(count, chooser.choice([2, 2, 3])) for _ in range(count - 1)]
+        causes = tuple(sorted({some_of(chooser, range(count), size) for size in sizes}))
         question = ((count, arrows, causes),) + some_lots(chooser, count)
         if seen is None or bool(question[3]) is seen:
             hedges = all_hedges(question)
             if hedges:
                 return question, hedges
+
+
+class PlainNought(Exception):
+    """A division by 0, in a row."""
+
+
+def plain_near(arrows, lot):
+    return set(lot) | {start for start, end in arrows if end in lot}
+
+
+def plain_numbers(question, steps, table):
+    """For each step a dict from rows to fractions, by the words at "Steps"; the lots are known to be right."""
+    (count, arrows, _), _, _, _, _ = question
+    sizes, chances = table
+    lots_told = plain_lots(question, steps)
+    rows = list(ranges(sizes))
+    told = []
+
+    def summed_at(numbers, row, things):
+        """The sum over all values of some things, the others being as in the row."""
+        total = Fraction(0)
+        for values in ranges([sizes[thing] for thing in things]):
+            there = list(row)
+            for thing, value in zip(things, values):
+                there[thing] = value
+            total += numbers[tuple(there)]
+        return total
+
+    for step, lot in zip(steps, lots_told):
+        near = plain_near(arrows, lot)
+        numbers = {}
+        for whole_row in rows:
+            row = tuple(value if thing in near else 0 for thing, value in enumerate(whole_row))
+            if step[0] == "watched":
+                numbers[whole_row] = Fraction(*chances[rows.index(row)]) if row != whole_row else \
+                    Fraction(*chances[len(numbers)])
+            elif step[0] == "sum":
+                others = [thing for thing in lots_told[step[1]] if thing not in lot]
+                numbers[whole_row] = summed_at(told[step[1]], row, others)
+            elif step[0] == "part":
+                number, things = Fraction(1), lots_told[step[1]]
+                for at, thing in enumerate(things):
+                    if thing in lot:
+                        below = summed_at(told[step[1]], row, things[at:]) if at else Fraction(1)
+                        if below == 0:
+                            raise PlainNought(row)
+                        number *= summed_at(told[step[1]], row, things[at + 1:]) / below
+                numbers[whole_row] = number
+            else:
+                number = Fraction(1)
+                for place in step[1]:
+                    number *= told[place][row]
+                numbers[whole_row] = number
+        told.append(numbers)
+    return told
+
+
+def plain_by_paper(question, paper, table):
+    """The answer by a paper: its last step's numbers, summed over what is neither seen nor asked, and divided."""
+    _, _, by_hand, seen, asked = question
+    moved, steps = paper
+    sizes = table[0]
+    last = plain_numbers(question, steps, table)[-1]
+    goal = plain_goal(question, moved)
+    things = sorted(by_hand + seen + asked)
+
+    def number(row, summed):
+        total = Fraction(0)
+        for values in ranges([sizes[thing] for thing in summed]):
+            there = {**row, **dict(zip(summed, values))}
+            total += last[tuple(there.get(thing, 0) for thing in range(len(sizes)))]
+        return total
+
+    told = []
+    for values in ranges([sizes[thing] for thing in things]):
+        row = dict(zip(things, values))
+        some = [thing for thing in goal if thing not in seen + asked]
+        below = number(row, sorted(some + list(asked)))
+        if below == 0:
+            raise PlainNought(values)
+        told.append(number(row, some) / below)
+    return told
+
+
+def some_table(chooser, question, sizes, least=0):
+    """A table of a question that need not be any world's, many of its chances 0 if the least may be."""
+    tried = question[1]
+    rows = list(ranges(sizes))
+    weights = [max(least, chooser.choice([0, 0, 1, 1, 2, 3])) for _ in rows]
+    wholes = {}
+    for row, weight in zip(rows, weights):
+        key = tuple(row[thing] for thing in tried)
+        wholes[key] = wholes.get(key, 0) + weight
+    if min(wholes.values()) == 0:
+        return some_table(chooser, question, sizes, least)
+    told = [Fraction(weight, wholes[tuple(row[thing] for thing in tried)]) for row, weight in zip(rows, weights)]
+    return tuple(sizes), tuple((chance.numerator, chance.denominator) for chance in told)
+
+
+def plain_solve(question):
+    """("not", HEDGE), all lots being asked for GREAT, or ("told", MOVED)."""
+    count, _, causes = question[0]
+    moved = ()
+    while True:
+        let = [thing for thing in question[3] if thing not in moved and plain_may_move(question, moved, thing)]
+        if not let:
+            break
+        moved += (min(let),)
+    for small in plain_rooms(causes, plain_goal(question, moved)):
+        greats = [great for great in lots(count) if plain_is_great(question, great, small)]
+        if greats:
+            return "not", (moved, tuple(sorted({thing for great in greats for thing in great})), small)
+    return "told", moved

@@ -169,6 +169,13 @@ class HangingTest(unittest.TestCase):
         self.compare(drawing, (), (), 3, (0,), (4,), chooser)
         self.compare(drawing, (), (), 0, (3,), (4,), chooser)
         self.compare(drawing, (), (), 0, (2, 3), (4,), chooser)
+        # A short way and a long one; a way that is cut, and one that is not.
+        drawing = (6, ((0, 2), (1, 2), (2, 3), (2, 5), (3, 4), (4, 5)), ())
+        self.compare(drawing, (), (), 0, (1,), (5,), chooser)
+        drawing = (6, ((0, 2), (1, 2), (2, 3), (2, 4), (3, 5), (4, 5)), ())
+        self.compare(drawing, (), (), 0, (1,), (5,), chooser)
+        self.compare(drawing, (), (3,), 0, (1,), (5,), chooser)
+        self.compare(drawing, (3,), (), 0, (1,), (5,), chooser)
 
     def test_causes_of_the_cut_drawing(self):
         # The cause of the road has another number there.

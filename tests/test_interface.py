@@ -29,6 +29,10 @@ FUNCTIONS = {
     "answers": ["answer(question, world)", "watched(question, world)"],
     "steps": ["lots_of(question, steps)", "is_steps(question, value)"],
     "checking": ["may_move(question, moved, thing)", "is_paper(question, value)", "is_hedge(question, value)"],
+    "tables": ["need_table(question, table)"],
+    "values": ["step_factors(question, steps, table)", "by_paper(question, paper, table)", "lean(question, paper)"],
+    "solving": ["solve(question)", "is_told(question)", "solving_after(question, many)"],
+    "doubles": ["two_worlds(question, hedge)", "is_two_worlds(question, value)"],
     "questions": ["need_question(question)", "things_of(question)", "goal(question, moved)"],
     "chances": ["reduced(above, below)", "plus(one, other)", "times(one, other)", "over(one, other)"],
 }
