@@ -183,8 +183,9 @@ class SolvingTest(unittest.TestCase):
         self.assertEqual(solve(HARDER[:1] + ((0,),) + HARDER[2:])[0], "told")
 
     def test_states_of_the_example(self):
-        told = [((), (), (), None, ()), ((), STEPS[:1], (), None, ((1,), (2,))), ((), STEPS[:1], (), ((1,), 0), ((2,),)),
-                ((), STEPS[:2], (), ((1,), 1), ((2,),)), ((), STEPS[:2], (1,), None, ((2,),)),
+        told = [((), (), (), None, ()), ((), STEPS[:1], (), None, ((1,), (2,))),
+                ((), STEPS[:1], (), ((1,), 0), ((2,),)), ((), STEPS[:2], (), ((1,), 1), ((2,),)),
+                ((), STEPS[:2], (1,), None, ((2,),)),
                 ((), STEPS[:2], (1,), ((2,), 0), ()), ((), STEPS[:3], (1,), ((2,), 2), ()),
                 ((), STEPS[:4], (1,), ((2,), 3), ()), ((), STEPS[:4], (1, 3), None, ()), ((), STEPS, (1, 3), None, ())]
         for many, state in enumerate(told):
