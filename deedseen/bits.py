@@ -99,15 +99,16 @@ def way_bits(road, following):
     bits = []
     for at, meeting in enumerate(road[0]):
         if len(_coming(road, at)) == 2:
-            bits = bits + _way_bits_from(meeting, following)
+            bits = bits + way_bits_from(meeting, following)
     return bits
 
 
-def _way_bits_from(meeting, following):
+def way_bits_from(begin, following):
+    """The bits by which that of a thing of a road is handed on along a way."""
     bits = []
-    thing, key = meeting, ("road", meeting)
+    thing, key = begin, ("road", begin)
     while thing in following:
         thing = following[thing]
-        source, key = key, ("way", meeting, thing)
+        source, key = key, ("way", begin, thing)
         bits.append((thing, key, [source], NOISY))
     return bits

@@ -30,7 +30,15 @@ def road_back(question, moved, thing):
     return least_road(drawing, together(by_hand, moved), (thing,), thing, asked, others)
 
 
-def _are_moves(question, value):
+def least_move(question, moved):
+    """The least thing of SEEN that may be moved behind others, or None."""
+    for thing in lot_without(question[3], moved):
+        if can_move(question, moved, thing):
+            return thing
+    return None
+
+
+def are_moves(question, value):
     """Whether a value is a tuple of things of SEEN, each to be moved behind those ahead of it."""
     if not is_row_of(question[3], value):
         return False
@@ -48,7 +56,7 @@ def is_paper_of(question, value):
     if not is_tuple_of(value, 2):
         return False
     moved, steps = value
-    if not are_steps(question, steps) or not steps or not _are_moves(question, moved):
+    if not are_steps(question, steps) or not steps or not are_moves(question, moved):
         return False
     return right_lots(question, steps)[-1] == goal_behind(question, moved)
 
@@ -65,9 +73,9 @@ def is_hedge_of(question, value):
         return False
     moved, great, small = value
     count, _, causes = question[0]
-    if not is_lot(count, great) or not is_lot(count, small) or not _are_moves(question, moved):
+    if not is_lot(count, great) or not is_lot(count, small) or not are_moves(question, moved):
         return False
-    if any(can_move(question, moved, thing) for thing in lot_without(question[3], moved)):
+    if least_move(question, moved) is not None:
         return False
     return small in rooms_in(causes, goal_behind(question, moved)) and _outgrows(question, great, small)
 

@@ -10,10 +10,10 @@ from deedseen.answers import answer_in, watched_in
 from deedseen.bits import NOISY, PLAIN, next_things, road_bits, road_coins, way_bits, world_of_bits
 from deedseen.checking import is_hedge_of, road_back
 from deedseen.errors import BadHedge
-from deedseen.lots import children_in, is_integer, is_tuple_of, lot_without, meets, together
+from deedseen.lots import children_in, is_tuple_of, lot_without, meets, together
 from deedseen.questions import need_question, things_in
 from deedseen.roads import cut_drawing
-from deedseen.worlds import is_world, rows_of
+from deedseen.worlds import is_row, is_world, rows_of
 
 
 def two_worlds(question, hedge):
@@ -132,7 +132,7 @@ def is_two_worlds(question, value):
     if not is_world(question[0], one) or not is_world(question[0], other) or one[0] != other[0]:
         return False
     sizes = [one[0][thing] for thing in things_in(question)]
-    if not _is_row(sizes, row):
+    if not is_row(sizes, row):
         return False
     chances = watched_in(question, one)
     if any(chance[0] == 0 for chance in chances) or chances != watched_in(question, other):
@@ -140,8 +140,3 @@ def is_two_worlds(question, value):
     at = rows_of(sizes).index(row)
     return answer_in(question, one)[at] != answer_in(question, other)[at]
 
-
-def _is_row(sizes, value):
-    if not is_tuple_of(value, len(sizes)):
-        return False
-    return all(is_integer(one, 0, size - 1) for one, size in zip(value, sizes))

@@ -41,6 +41,15 @@ def _need_causes(count, causes):
         ahead = cause
 
 
+def is_drawing(value):
+    """Whether a value is a drawing."""
+    try:
+        need_drawing(value)
+    except BadDrawing:
+        return False
+    return True
+
+
 def need_lot(drawing, value):
     """Return a lot of things of a drawing, refuse what is none."""
     need_drawing(drawing)

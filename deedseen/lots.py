@@ -37,6 +37,11 @@ def is_row_of(lot, value):
     return len(set(value)) == len(value)
 
 
+def is_lot_of(lot, value):
+    """Whether a value is a lot that lies in a lot."""
+    return is_row_of(lot, value) and value == tuple(sorted(value))
+
+
 def lies_in(lot, other):
     """Whether all things of a lot are in another one."""
     return all(thing in other for thing in lot)
@@ -55,6 +60,14 @@ def together(lot, other):
 def lot_without(lot, other):
     """The lot of what is in the first one alone."""
     return tuple(thing for thing in lot if thing not in other)
+
+
+def lots_within(lot):
+    """All lots that lie in a lot, those of fewer things ahead, of as many in ascending order."""
+    found = [()]
+    for thing in lot:
+        found = found + [some + (thing,) for some in found]
+    return [some for _, some in sorted([(len(some), some) for some in found])]
 
 
 def all_things(count):

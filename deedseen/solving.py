@@ -1,8 +1,8 @@
 """Whether a question is told, with the paper or the hedge that shows it."""
 
-from deedseen.checking import can_move
+from deedseen.checking import least_move
 from deedseen.errors import BadParameter
-from deedseen.lots import is_integer, leading_in, lot_without, rooms_in
+from deedseen.lots import is_integer, leading_in, rooms_in
 from deedseen.questions import goal_behind, need_question
 from deedseen.steps import right_lots
 
@@ -54,9 +54,9 @@ def _next_state(question, state):
 
 
 def _moved_on(question, moved):
-    for thing in lot_without(question[3], moved):
-        if can_move(question, moved, thing):
-            return moved + (thing,), (), (), None, ()
+    thing = least_move(question, moved)
+    if thing is not None:
+        return moved + (thing,), (), (), None, ()
     return moved, (("watched",),), (), None, rooms_in(question[0][2], goal_behind(question, moved))
 
 

@@ -6,8 +6,8 @@ from deedseen.errors import BadParameter, BadWorld, DeedError, TooGreat
 from deedseen.lots import all_things, all_without, causes_with, is_integer, is_tuple_of, parents_in
 
 MOST_ROWS = 2 ** 14
-_MOST_VALUES = 64
-_MOST_WEIGHT = 10 ** 6
+MOST_VALUES = 64
+MOST_WEIGHT = 10 ** 6
 
 
 def need_world(drawing, world):
@@ -39,25 +39,25 @@ def is_world(drawing, value):
 
 def are_sizes(count, value):
     """Whether a value is a tuple with a number of values for each of so many things."""
-    return is_tuple_of(value, count) and all(is_integer(size, 1, _MOST_VALUES) for size in value)
+    return is_tuple_of(value, count) and all(is_integer(size, 1, MOST_VALUES) for size in value)
 
 
 def _need_hidden(count, hidden):
     if not is_tuple_of(hidden, count):
         raise BadWorld((1,))
     for at, weights in enumerate(hidden):
-        if type(weights) is not tuple or len(weights) > _MOST_VALUES or not _are_weights(weights):
+        if type(weights) is not tuple or len(weights) > MOST_VALUES or not _are_weights(weights):
             raise BadWorld((1, at))
 
 
 def _are_weights(value):
     # Of no weight at all none is above 0.
-    return all(is_integer(weight, 0, _MOST_WEIGHT) for weight in value) and any(value)
+    return all(is_integer(weight, 0, MOST_WEIGHT) for weight in value) and any(value)
 
 
 def _need_table_of(drawing, world, thing):
     table = world[2][thing]
-    if not is_tuple_of(table, many_rows(_key_sizes(drawing, world, thing))):
+    if not is_tuple_of(table, many_rows(key_sizes(drawing, world, thing))):
         raise BadWorld((2, thing))
     for at, weights in enumerate(table):
         if not is_tuple_of(weights, world[0][thing]) or not _are_weights(weights):
@@ -85,7 +85,14 @@ def rows_of(sizes):
     return rows
 
 
-def _key_sizes(drawing, world, thing):
+def is_row(sizes, value):
+    """Whether a value is a row of values."""
+    if not is_tuple_of(value, len(sizes)):
+        return False
+    return all(is_integer(one, 0, size - 1) for one, size in zip(value, sizes))
+
+
+def key_sizes(drawing, world, thing):
     """How many values each thing and cause has by which a thing's table goes."""
     count, arrows, causes = drawing
     sizes = [world[0][parent] for parent in parents_in(arrows, all_things(count), thing)]
@@ -102,15 +109,15 @@ def factor(drawing, world, lot):
 def factor_in(drawing, world, lot):
     """The same as factor, of parameters that are known to be right."""
     cause_rows = rows_of(hidden_sizes(world))
-    weights = [_weight_of(world, row) for row in cause_rows]
+    weights = [weight_of(world[1], row) for row in cause_rows]
     looks = [_look_of(drawing, world, thing, cause_rows) for thing in lot]
     return tuple([_chance_of(row, looks, weights) for row in rows_of(world[0])])
 
 
-def _weight_of(world, cause_row):
-    """The weight of a row of the causes' values, of those of all of them together."""
+def weight_of(hidden, row):
+    """The weight of a row of causes' values, of those of all of them together."""
     weight = 1
-    for weights, value in zip(world[1], cause_row):
+    for weights, value in zip(hidden, row):
         weight = weight * weights[value]
     return weight
 
@@ -123,7 +130,7 @@ def _look_of(drawing, world, thing, cause_rows):
     has the weights of each row of the table and what they are together.
     """
     count, arrows, causes = drawing
-    keys = _key_sizes(drawing, world, thing)
+    keys = key_sizes(drawing, world, thing)
     strides = [many_rows(keys[at + 1:]) for at in range(len(keys))]
     parents = parents_in(arrows, all_things(count), thing)
     numbers = causes_with(causes, thing)

@@ -33,6 +33,13 @@ FUNCTIONS = {
     "values": ["step_factors(question, steps, table)", "by_paper(question, paper, table)", "lean(question, paper)"],
     "solving": ["solve(question)", "is_told(question)", "solving_after(question, many)"],
     "doubles": ["two_worlds(question, hedge)", "is_two_worlds(question, value)"],
+    "seeing": ["moved_all(question)", "moved_question(question, moved)", "back_road(question, thing)",
+               "told_with(question, more)", "least_seen(question)"],
+    "rules": ["beside(question, rule, thing)", "forget(question, thing)", "set_for_seen(question, thing)",
+              "undo(question, thing)"],
+    "aparts": ["apart(question, rule, thing)", "is_apart(question, rule, thing, value)"],
+    "tries": ["with_tried(question, tried)", "told_by(question, tried)", "cheapest_try(question, prices)",
+              "is_cheapest_try(question, prices, value)"],
     "questions": ["need_question(question)", "things_of(question)", "goal(question, moved)"],
     "chances": ["reduced(above, below)", "plus(one, other)", "times(one, other)", "over(one, other)"],
 }
