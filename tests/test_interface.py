@@ -10,7 +10,7 @@ import deedseen
 
 FOLDER = Path(deedseen.__file__).parent
 
-# What has landed, file by file, as DOC.md lists it.
+# All of it, file by file, as DOC.md lists it.
 FUNCTIONS = {
     "drawings": ["need_drawing(drawing)", "need_lot(drawing, value)", "parents_of(drawing, lot, thing)",
                  "children_of(drawing, lot, thing)", "causes_of(drawing, thing)", "linked(drawing, one, other)",
@@ -40,6 +40,13 @@ FUNCTIONS = {
     "aparts": ["apart(question, rule, thing)", "is_apart(question, rule, thing, value)"],
     "tries": ["with_tried(question, tried)", "told_by(question, tried)", "cheapest_try(question, prices)",
               "is_cheapest_try(question, prices, value)"],
+    "hiding": ["hidden(drawing, thing)", "shown(thing, lot)"],
+    "hiddenworlds": ["world_hidden(drawing, world, thing)", "world_shown(drawing, world, thing)"],
+    "watching": ["hidden_all(question, lot)", "cheapest_watch(question, prices)",
+                 "is_cheapest_watch(question, prices, value)"],
+    "denials": ["items_of(drawing)", "without(question, denied)", "least_denials(question, order)",
+                "is_denials(question, order, value)"],
+    "sessions": ["begun(drawing)", "need_state(state)", "session_step(state, deed)", "played(drawing, deeds)"],
     "questions": ["need_question(question)", "things_of(question)", "goal(question, moved)"],
     "chances": ["reduced(above, below)", "plus(one, other)", "times(one, other)", "over(one, other)"],
 }
