@@ -9,7 +9,6 @@ and COINS are dicts from things and from sources, or causes, to values.
 from math import gcd, lcm
 
 from deedseen.chances import sum_of
-from deedseen.drawings import need_drawing
 from deedseen.errors import TooGreat
 from deedseen.hiding import hidden, images_of
 from deedseen.lots import all_things, all_without, causes_with, children_in, parents_in
@@ -183,7 +182,7 @@ def _mixture(hiding, looks, other, values, coins):
 
 def world_shown(drawing, world, thing):
     """A world of the drawing with a thing, for one of the drawing without it: the others are moved as they were."""
-    need_drawing(drawing)
+    # The world is one of the drawing without the thing, so the thing is looked at ahead of it.
     hiding = Hiding(drawing, thing)
     need_world(hiding.left, world)
     holders = [hiding.images.index(cause) for cause in hiding.left[2]]

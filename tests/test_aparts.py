@@ -72,6 +72,8 @@ class ApartTest(unittest.TestCase):
         world, row = told
         self.assertIs(need_world(question[0], world), world)
         self.assertIs(is_apart(question, rule, thing, told), True)
+        # It is the world that comes of the road, as the document tells it: so TooGreat is where it ought to be.
+        self.assertEqual(many_rows(world), rows)
         if rows <= most:
             self.assertTrue(is_positive(question[0], world))
             self.assertIn(row, unlike_rows(question, rule, thing, world))
@@ -136,6 +138,14 @@ class ApartTest(unittest.TestCase):
         drawing = (6, ((0, 2), (1, 2), (2, 5), (3, 5)), ((0, 1), (1, 3), (3, 4)))
         for seen in [(5,), (2, 5), (2, 3), (1, 5), (1, 3, 5)]:
             self.compare((drawing, (), (0,), seen, (4,)), "undo", 0)
+
+    def test_ways_down_that_lead_through_the_thing_set(self):
+        # From the meeting 0 the shortest way to what is seen leads through 2, the arrows out of which are cut.
+        arrows = ((0, 1), (0, 3), (1, 2), (2, 6), (3, 4), (4, 5), (5, 8))
+        question = ((9, arrows, ((0, 2), (0, 7))), (), (2,), (6, 8), (7,))
+        world, _ = self.compare(question, "undo", 2)
+        # The bits of 2, 0, 7, the coins of two causes, 0's way by 3, 4, 5 to 8, and that of 2 to 6.
+        self.assertEqual(many_rows(world), 2 ** 10)
 
     def test_cut_arrows_and_causes_move_nothing(self):
         # The arrow from 0 to 2 is cut by "set", that into 1, and the cause of it, is always.
