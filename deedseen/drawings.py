@@ -5,7 +5,7 @@ from deedseen.lots import causes_with, children_in, goal_in, is_closed, is_integ
 from deedseen.lots import leading_in, lies_in, meets, parents_in, rooms_in
 
 _MOST_THINGS = 10
-_MOST_CAUSES = 20
+MOST_CAUSES = 20
 
 
 def need_drawing(drawing):
@@ -32,7 +32,7 @@ def _need_arrows(count, arrows):
 
 
 def _need_causes(count, causes):
-    if type(causes) is not tuple or len(causes) > _MOST_CAUSES:
+    if type(causes) is not tuple or len(causes) > MOST_CAUSES:
         raise BadDrawing((2,))
     ahead = ()
     for at, cause in enumerate(causes):

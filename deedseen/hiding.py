@@ -1,11 +1,10 @@
 """Drawings without a thing: what is left of arrows and causes if it is watched no more."""
 
-from deedseen.drawings import need_drawing, need_thing
+from deedseen.drawings import MOST_CAUSES, need_drawing, need_thing
 from deedseen.errors import BadLot, BadParameter, TooGreat
 from deedseen.lots import all_things, children_in, is_integer, is_lot, lot_without, parents_in, together
 
 _GREATEST = 9
-_MOST_CAUSES = 20
 
 
 def hidden(drawing, thing):
@@ -20,8 +19,8 @@ def hidden(drawing, thing):
 def hidden_in(drawing, thing):
     """The same as hidden, of parameters that are known to be right."""
     causes = sorted({image for image in images_of(drawing, thing) if len(image) > 1})
-    if len(causes) > _MOST_CAUSES:
-        raise TooGreat(_MOST_CAUSES)
+    if len(causes) > MOST_CAUSES:
+        raise TooGreat(MOST_CAUSES)
     return drawing[0] - 1, _arrows_left(drawing, thing), tuple(causes)
 
 

@@ -1,13 +1,12 @@
 """Sessions: a drawing is mended by deeds, and asked."""
 
-from deedseen.drawings import is_drawing, need_drawing
+from deedseen.drawings import MOST_CAUSES, is_drawing, need_drawing
 from deedseen.errors import BadDeed, BadParameter, NoRow, TooGreat
 from deedseen.hiding import hidden
 from deedseen.lots import is_integer, is_lot, is_tuple_of
 from deedseen.solving import solve
 
 _MOST_PAST = 200
-_MOST_CAUSES = 20
 
 # How many things each deed has behind its word.
 _DEEDS = {"arrow": 2, "unarrow": 2, "cause": 1, "uncause": 1, "hide": 1, "ask": 4, "undo": 0}
@@ -81,8 +80,8 @@ def _causes_mended(drawing, word, cause):
     count, _, causes = drawing
     if not is_lot(count, cause) or len(cause) < 2 or (cause in causes) == (word == "cause"):
         raise BadParameter(cause)
-    if word == "cause" and len(causes) == _MOST_CAUSES:
-        raise TooGreat(_MOST_CAUSES)
+    if word == "cause" and len(causes) == MOST_CAUSES:
+        raise TooGreat(MOST_CAUSES)
     return _changed(causes, cause)
 
 

@@ -9,14 +9,11 @@ from tests.test_roads import all_roads, plain_open, rank
 solved = lru_cache(None)(plain_solve)
 
 
-def drawings_of_three():
-    return [drawing for drawing in all_drawings(3) if len(drawing[2]) <= 2]
-
-
 def small_questions():
-    """ALL questions of drawings of one and two things, and of three with up to two causes."""
-    for drawing in [(1, (), ())] + all_drawings(2) + drawings_of_three():
-        yield from all_questions(drawing)
+    """ALL questions of ALL drawings of one, two and three things."""
+    for count in (1, 2, 3):
+        for drawing in all_drawings(count):
+            yield from all_questions(drawing)
 
 
 def plain_told(question):

@@ -164,14 +164,35 @@ class DenialsTest(unittest.TestCase):
     def test_all_questions_of_three_things_in_all_orders(self):
         many = 0
         for question in small_questions():
-            if question[0][0] == 3:
-                orders = list(permutations(plain_items(question[0])))
+            if question[0][0] == 3 and len(question[0][2]) <= 2:
                 if plain_told(question):
-                    # Nothing is denied, whatever the order; up to 120 of them.
-                    orders = orders[::40]
-                for order in orders:
-                    many += bool(self.compare(question, order)[0])
+                    # Nothing is denied, whatever the order.
+                    for order in permutations(plain_items(question[0])):
+                        self.assertEqual(denials.least_denials(question, order)[::2], ((), ()))
+                    self.compare(question, order)
+                else:
+                    for order in permutations(plain_items(question[0])):
+                        many += bool(self.compare(question, order)[0])
         self.assertGreater(many, 1000)
+
+    def test_questions_of_three_things_with_more_causes(self):
+        # There are up to 5040 orders: some of them.
+        chooser = random.Random(465)
+        for question in small_questions():
+            if question[0][0] == 3 and len(question[0][2]) > 2:
+                items = list(plain_items(question[0]))
+                for _ in range(2 if plain_told(question) else 6):
+                    chooser.shuffle(items)
+                    self.compare(question, tuple(items))
+
+    def test_all_orders_of_seven_items(self):
+        question = ((3, all_arrows(3), all_causes(3)), (), (0,), (), (2,))
+        found = set()
+        for order in permutations(plain_items(question[0])):
+            denied = denials.least_denials(question, order)[0]
+            self.assertEqual(denied, plain_denied(question, order))
+            found.add(tuple(sorted(denied)))
+        self.assertGreater(len(found), 1)
 
     def test_drawn_questions_of_four_things(self):
         chooser = random.Random(46)

@@ -11,7 +11,6 @@ from tests.helping import (BAD_DRAWING, EXAMPLE, HOSTILE, NO_INTEGERS, NO_TUPLES
                            assert_first_told, assert_plain, assert_refused, bad_lot, bad_parameter, lots, some_drawing,
                            some_of, subsets)
 from tests.plain_hiding import PlainTooGreat, plain_hidden
-from tests.plain_rules import drawings_of_three
 
 
 class HiddenTest(unittest.TestCase):
@@ -50,7 +49,7 @@ class HiddenTest(unittest.TestCase):
 
     def test_in_either_order(self):
         chooser = random.Random(422)
-        drawings = drawings_of_three() + [some_drawing(chooser, chooser.choice([3, 4, 5, 6])) for _ in range(300)]
+        drawings = all_drawings(3) + [some_drawing(chooser, chooser.choice([3, 4, 5, 6])) for _ in range(300)]
         for drawing in drawings:
             for one in range(drawing[0]):
                 for other in range(one + 1, drawing[0]):
